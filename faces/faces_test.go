@@ -58,6 +58,10 @@ var (
 	_ func(*mem.Mem, int, int)                                 = (*mem.Mem).Store
 	_ func(*mem.Mem) []api.Access                              = (*mem.Mem).Log
 	_ func(*mem.Mem, mem.Machine, []api.Poke, int) (int, bool) = mem.Play
+	_ interface {
+		Step(*mem.Mem) bool
+		Ans() api.Ans
+	} = mem.Machine(nil)
 
 	_ func(conf) bool           = tree.Right
 	_ func(conf, int) []int     = tree.Path
