@@ -2,7 +2,6 @@ package admit
 
 import (
 	"iter"
-	"math"
 	"slices"
 	"testing"
 
@@ -11,7 +10,9 @@ import (
 	"breadline/mem"
 	"breadline/pack"
 	"breadline/plan"
+	"breadline/sample"
 	"breadline/shift"
+	"breadline/tree"
 )
 
 var _ mem.Machine = (*Machine)(nil)
@@ -24,58 +25,14 @@ const (
 	ending = 3
 )
 
-const maxVersion = 1<<32 - 1
-
 // v is one version of a word.
 const v = 1 << 32
 
-// few is a setting of two stripes, and tenants 0 (1 (2), 3).
-func few() api.Conf {
-	return api.Conf{Threads: 2, Stripes: 2, Gate: 4, Lease: 4, Retry: 2, Tickets: 3, Parents: []int{-1, 0, 1, 0}, Limits: []int{20, 10, 8, 5}}
-}
-
-// chain is a setting of tenants, each the child of the one ahead of it.
-func chain(nodes, stripes, tickets int) api.Conf {
-	c := api.Conf{Threads: 2, Stripes: stripes, Gate: 8, Lease: 4, Retry: 2, Tickets: tickets}
-	for node := range nodes {
-		c.Parents = append(c.Parents, node-1)
-		c.Limits = append(c.Limits, 100-node)
-	}
-	return c
-}
-
-// The words of a node, and of a ticket, counted out.
-func nodeWord(c api.Conf, node int) int           { return node * (6 + 2*c.Stripes) }
-func availWord(c api.Conf, node int) int          { return nodeWord(c, node) + 1 }
-func leaseWord(c api.Conf, node, stripe int) int  { return nodeWord(c, node) + 2 + stripe }
-func globalWord(c api.Conf, node int) int         { return nodeWord(c, node) + 2 + c.Stripes }
-func begunWord(c api.Conf, node int) int          { return globalWord(c, node) + 1 }
-func doneWord(c api.Conf, node int) int           { return globalWord(c, node) + 2 }
-func liveWord(c api.Conf, node int) int           { return globalWord(c, node) + 3 }
-func stripeWord(c api.Conf, node, stripe int) int { return globalWord(c, node) + 4 + stripe }
-func ticketWord(c api.Conf, ticket int) int       { return nodeWord(c, len(c.Parents)) + 2*ticket }
-
-// pathOf is a node, its parent, and so on.
-func pathOf(c api.Conf, node int) []int {
-	var l []int
-	for ; node != -1; node = c.Parents[node] {
-		l = append(l, node)
-	}
-	return l
-}
-
-// word is the one of a version and a value.
-func word(version int, value int) int {
-	w, _ := pack.Word(version, value)
-	return w
-}
-
-func load(w, a int) api.Access       { return api.Access{Kind: api.Load, W: w, A: a} }
-func plus(w, a, b int) api.Access    { return api.Access{Kind: api.Add, W: w, A: a, B: b} }
-func swapped(w, a, b int) api.Access { return api.Access{Kind: api.Cas, W: w, A: a, B: b, Ok: true} }
-func failed(w, a, b int) api.Access  { return api.Access{Kind: api.Cas, W: w, A: a, B: b} }
-func stored(w, a int) api.Access     { return api.Access{Kind: api.Store, W: w, A: a} }
-func poke(at, w, x int) api.Poke     { return api.Poke{At: at, W: w, X: x} }
+// What written runs are made of.
+var (
+	load, plus, swapped, failed, stored = sample.Load, sample.Plus, sample.Swapped, sample.Failed, sample.Stored
+	poke                                = sample.Poke
+)
 
 func had(handle int) api.Ans { return api.Ans{N: handle} }
 func over(node int) api.Ans  { return api.Ans{Err: api.ErrOver, Node: node} }
@@ -93,7 +50,7 @@ type written struct {
 
 func (f written) check(t *testing.T) {
 	t.Helper()
-	c := few()
+	c := sample.Few()
 	m := plan.Fresh(c)
 	for _, p := range f.laid {
 		m.Poke(p.W, p.X)
@@ -157,22 +114,22 @@ func TestAdmitted(t *testing.T) {
 			{load(37, 1), load(38, 0), swapped(38, 0, v+1)},
 			{load(7, 1), load(8, 0), swapped(8, 0, v+1)},
 		}, had(2*16 + 2)},
-		{"the version goes round, and the old body is covered", []api.Poke{{W: 40, X: word(maxVersion-1, free)}, {W: 41, X: 99}, {W: 32, X: 4}, {W: 2, X: 4}}, 3, 3, 0, nil, [][]api.Access{
-			claimed(40, word(maxVersion-1, free), word(maxVersion, busy)),
+		{"the version goes round, and the old body is covered", []api.Poke{{W: 40, X: sample.Word(sample.MaxVersion-1, free)}, {W: 41, X: 99}, {W: 32, X: 4}, {W: 2, X: 4}}, 3, 3, 0, nil, [][]api.Access{
+			claimed(40, sample.Word(sample.MaxVersion-1, free), sample.Word(sample.MaxVersion, busy)),
 			{load(32, 4), swapped(32, 4, 1)},
 			{load(2, 4), swapped(2, 4, 1)},
 			{stored(41, 3<<21+3), stored(40, live)},
 			{load(37, 1), load(38, 0), swapped(38, 0, v+3)},
 			{load(7, 1), load(8, 0), swapped(8, 0, v+3)},
 		}, had(0)},
-		{"the last version", []api.Poke{{W: 40, X: word(maxVersion-2, free)}, {W: 32, X: 4}, {W: 2, X: 4}}, 3, 3, 0, nil, [][]api.Access{
-			claimed(40, word(maxVersion-2, free), word(maxVersion-1, busy)),
+		{"the last version", []api.Poke{{W: 40, X: sample.Word(sample.MaxVersion-2, free)}, {W: 32, X: 4}, {W: 2, X: 4}}, 3, 3, 0, nil, [][]api.Access{
+			claimed(40, sample.Word(sample.MaxVersion-2, free), sample.Word(sample.MaxVersion-1, busy)),
 			{load(32, 4), swapped(32, 4, 1)},
 			{load(2, 4), swapped(2, 4, 1)},
-			{stored(41, 3<<21+3), stored(40, word(maxVersion, live))},
+			{stored(41, 3<<21+3), stored(40, sample.Word(sample.MaxVersion, live))},
 			{load(37, 1), load(38, 0), swapped(38, 0, v+3)},
 			{load(7, 1), load(8, 0), swapped(8, 0, v+3)},
-		}, had(maxVersion * 16)},
+		}, had(sample.MaxVersion * 16)},
 	} {
 		f.check(t)
 	}
@@ -211,8 +168,8 @@ func TestRefused(t *testing.T) {
 			{load(32, 0), load(31, 0)},
 			{stored(40, 2*v+free)},
 		}, over(3)},
-		{"the version goes round", []api.Poke{{W: 40, X: word(maxVersion-1, free)}}, 3, 6, 0, nil, [][]api.Access{
-			claimed(40, word(maxVersion-1, free), word(maxVersion, busy)),
+		{"the version goes round", []api.Poke{{W: 40, X: sample.Word(sample.MaxVersion-1, free)}}, 3, 6, 0, nil, [][]api.Access{
+			claimed(40, sample.Word(sample.MaxVersion-1, free), sample.Word(sample.MaxVersion, busy)),
 			{load(32, 0), load(31, 5)},
 			{stored(40, free)},
 		}, over(3)},
@@ -316,20 +273,20 @@ func (s *script) admit(node, n, thread int) api.Ans {
 	if !ok {
 		return full()
 	}
-	path := pathOf(s.c, node)
+	path := tree.Path(s.c, node)
 	for i, node := range path {
 		if s.acquire(node, n, thread%s.c.Stripes) {
 			continue
 		}
 		for i--; i >= 0; i-- {
-			s.words().Add(availWord(s.c, path[i]), n)
+			s.words().Add(plan.Avail(s.c, path[i]), n)
 		}
-		s.words().Store(ticketWord(s.c, k), turned(was, free))
+		s.words().Store(plan.Ticket(s.c, k), turned(was, free))
 		s.kept = -1
 		return over(node)
 	}
-	s.words().Store(ticketWord(s.c, k)+1, node<<21+n)
-	s.words().Store(ticketWord(s.c, k), turned(was, live))
+	s.words().Store(plan.Ticket(s.c, k)+1, node<<21+n)
+	s.words().Store(plan.Ticket(s.c, k), turned(was, live))
 	s.kept = -1
 	for _, node := range path {
 		s.add(node, n, draw.Begin(thread))
@@ -343,8 +300,8 @@ func turned(w int, state int) int { return int(uint64(uint32(w>>32)+1)<<32) + st
 func (s *script) claim(start int) (int, int, bool) {
 	for i := range s.c.Tickets {
 		k := (start + i) % s.c.Tickets
-		w := s.words().Load(ticketWord(s.c, k))
-		if w&maxVersion == free && s.words().Cas(ticketWord(s.c, k), w, turned(w, busy)) {
+		w := s.words().Load(plan.Ticket(s.c, k))
+		if w&sample.MaxVersion == free && s.words().Cas(plan.Ticket(s.c, k), w, turned(w, busy)) {
 			s.kept = k
 			return k, turned(w, busy), true
 		}
@@ -353,7 +310,7 @@ func (s *script) claim(start int) (int, int, bool) {
 }
 
 func (s *script) acquire(node, n, stripe int) bool {
-	lease, avail := leaseWord(s.c, node, stripe), availWord(s.c, node)
+	lease, avail := plan.Lease(s.c, node, stripe), plan.Avail(s.c, node)
 	for l := s.words().Load(lease); l >= n; l = s.words().Load(lease) {
 		if s.words().Cas(lease, l, l-n) {
 			return true
@@ -383,8 +340,8 @@ func (s *script) acquire(node, n, stripe int) bool {
 
 func (s *script) add(node, d, x int) {
 	for {
-		l := s.words().Load(liveWord(s.c, node))
-		stripe := stripeWord(s.c, node, x%l)
+		l := s.words().Load(sample.Live(s.c, node))
+		stripe := sample.Stripe(s.c, node, x%l)
 		w := s.words().Load(stripe)
 		value := int(int32(w)) + d
 		if -s.c.Gate < value && value < s.c.Gate {
@@ -395,92 +352,24 @@ func (s *script) add(node, d, x int) {
 			return
 		}
 		if l < s.c.Stripes {
-			s.words().Cas(liveWord(s.c, node), l, 2*l)
+			s.words().Cas(sample.Live(s.c, node), l, 2*l)
 		}
 		x = draw.Next(x)
 	}
 }
 
 func (s *script) leave(node, stripe, w, value int) bool {
-	s.words().Add(begunWord(s.c, node), 1)
+	s.words().Add(sample.Begun(s.c, node), 1)
 	done := s.words().Cas(stripe, w, pair(w, 0))
 	if done {
-		s.words().Add(globalWord(s.c, node), value)
+		s.words().Add(plan.Counter(s.c, node), value)
 	}
-	s.words().Add(doneWord(s.c, node), 1)
+	s.words().Add(sample.Done(s.c, node), 1)
 	return done
 }
 
 // pair is the word behind w of a value.
 func pair(w, value int) int { return turned(w, 0) + int(uint32(value)) }
-
-// drawer picks one of so many, always by the same row.
-func drawer(thread int) func(many int) int {
-	x := draw.Begin(thread)
-	return func(many int) int {
-		x = draw.Next(x)
-		return draw.Pick(x, many)
-	}
-}
-
-func oneOf(pick func(int) int, l ...int) int { return l[pick(len(l))] }
-
-// someSetting has a tree of any form, and numbers near what is asked, so that all ways are gone.
-func someSetting(pick func(int) int) api.Conf {
-	c := api.Conf{
-		Threads: 8, Stripes: oneOf(pick, 1, 2, 4, 8), Gate: oneOf(pick, 1, 2, 5, 20, 1<<20), Lease: oneOf(pick, 0, 1, 4, 9, 1<<20),
-		Retry: 1, Tickets: 1 + pick(api.MaxTickets),
-	}
-	for node := range 1 + pick(api.MaxNodes) {
-		c.Parents = append(c.Parents, pick(max(node, 1))-max(1-node, 0))
-		c.Limits = append(c.Limits, oneOf(pick, pick(9), 30, 200, 1<<40))
-	}
-	return c
-}
-
-// someLeaf is one that is nobody's parent.
-func someLeaf(c api.Conf, pick func(int) int) int {
-	var l []int
-	for node := range c.Parents {
-		if !slices.Contains(c.Parents, node) {
-			l = append(l, node)
-		}
-	}
-	return oneOf(pick, l...)
-}
-
-func someAmount(pick func(int) int) int {
-	return oneOf(pick, 1, 1, 2, 3, 1+pick(9), 1+pick(9), 1<<20)
-}
-
-// disturb is what another thread may do: a word of a pool, or a counter, is another one, or a ticket, but for that which is kept, goes on.
-func disturb(c api.Conf, pick func(int) int, kept int) (int, int) {
-	node, stripe := pick(len(c.Parents)), pick(c.Stripes)
-	switch pick(8) {
-	case 0, 1:
-		return availWord(c, node), oneOf(pick, 0, pick(6), 10+pick(40), 1<<40)
-	case 2, 3:
-		return leaseWord(c, node, stripe), pick(c.Lease + 1)
-	case 4:
-		return liveWord(c, node), 1 << pick(bits(c.Stripes))
-	case 5, 6:
-		return stripeWord(c, node, stripe), word(pick(50), pick(2*c.Gate-1)-c.Gate+1)
-	}
-	k := pick(c.Tickets)
-	if k == kept {
-		return globalWord(c, node), pick(9)
-	}
-	return ticketWord(c, k), word(oneOf(pick, pick(9), 1<<31-1, maxVersion-1, maxVersion), oneOf(pick, free, free, busy, live, ending))
-}
-
-// bits is how many powers of two there are up to n.
-func bits(n int) int {
-	many := 0
-	for ; n > 0; n /= 2 {
-		many++
-	}
-	return many
-}
 
 // among is a machine, and the script of the same, each with a Mem of its own, that are disturbed alike.
 type among struct {
@@ -491,23 +380,23 @@ type among struct {
 }
 
 // amongOthers has both step, and holds each access and each answer of one against that of the other.
-func amongOthers(t *testing.T, pick func(int) int) among {
+func amongOthers(t *testing.T, pick sample.Pick) among {
 	t.Helper()
-	c := someSetting(pick)
-	r := among{c: c, node: someLeaf(c, pick), n: someAmount(pick), thread: pick(1001)}
+	c := pick.Setting()
+	r := among{c: c, node: pick.Leaf(c), n: pick.Amount(), thread: pick(1001)}
 	r.m = plan.Fresh(c)
 	other := plan.Fresh(c)
 	r.x = New(c, r.node, r.n, r.thread)
 	s := scripted(c, r.node, r.n, r.thread)
 	both := func() {
-		w, to := disturb(c, pick, s.kept)
+		w, to := pick.Disturb(c, s.kept)
 		r.m.Poke(w, to)
 		other.Poke(w, to)
 	}
-	for range oneOf(pick, 0, 9, 200) {
+	for range pick.OneOf(0, 9, 200) {
 		both()
 	}
-	often := oneOf(pick, 1, 2, 5, 1000)
+	often := pick.OneOf(1, 2, 5, 1000)
 	for steps := 1; ; steps++ {
 		if steps < 400 && pick(often) == 0 {
 			both()
@@ -528,7 +417,7 @@ func amongOthers(t *testing.T, pick func(int) int) among {
 
 // P12.1: whatever others do, all accesses, and answers, are those of the chapter's words.
 func TestAsTheChapterSays(t *testing.T) {
-	pick := drawer(12)
+	pick := sample.Drawer(12)
 	times := map[api.Errno]int{}
 	for range 6000 {
 		times[amongOthers(t, pick).x.Ans().Err]++
@@ -538,43 +427,20 @@ func TestAsTheChapterSays(t *testing.T) {
 	}
 }
 
-// moved is how much a row of accesses added to what is left of a node, and to its counter.
-func moved(c api.Conf, log []api.Access, node int) (int, int) {
-	left, counted := 0, 0
-	for _, a := range log {
-		by := 0
-		switch {
-		case a.Kind == api.Add:
-			by = a.A
-		case a.Kind == api.Cas && a.Ok:
-			by = a.B - a.A
-		}
-		switch {
-		case a.W >= availWord(c, node) && a.W < globalWord(c, node):
-			left += by
-		case a.W == globalWord(c, node):
-			counted += by
-		case a.W >= stripeWord(c, node, 0) && a.W < stripeWord(c, node, c.Stripes) && a.Ok:
-			counted += int(int32(a.B)) - int(int32(a.A))
-		}
-	}
-	return left, counted
-}
-
 // P12.2: what its own accesses did, whatever others do.
 func TestAllOrNone(t *testing.T) {
-	pick := drawer(13)
+	pick := sample.Drawer(13)
 	late := 0 // refused behind what was had
 	for range 5000 {
 		r := amongOthers(t, pick)
 		log, ans := r.m.Log(), r.x.Ans()
-		path := pathOf(r.c, r.node)
+		path := tree.Path(r.c, r.node)
 		for node := range r.c.Parents {
 			want := 0
 			if ans.Err == api.OK && slices.Contains(path, node) {
 				want = r.n
 			}
-			if left, counted := moved(r.c, log, node); left != -want || counted != want {
+			if left, counted := sample.Moved(r.c, log, node); left != -want || counted != want {
 				t.Fatalf("%+v, node %d: %d are left, %d are counted, by %v", r, node, left, counted, log)
 			}
 		}
@@ -594,7 +460,7 @@ func (r among) checkTicket(t *testing.T, log []api.Access) {
 	kept, is := api.Access{}, false
 	var stores []api.Access
 	for _, a := range log {
-		if a.Kind == api.Cas && a.Ok && a.W >= ticketWord(r.c, 0) {
+		if a.Kind == api.Cas && a.Ok && a.W >= plan.Ticket(r.c, 0) {
 			kept, is = a, true
 		}
 		if a.Kind == api.Store {
@@ -602,15 +468,15 @@ func (r among) checkTicket(t *testing.T, log []api.Access) {
 		}
 	}
 	version := pack.Version(kept.A) + 2
-	k := (kept.W - ticketWord(r.c, 0)) / 2
+	k := (kept.W - plan.Ticket(r.c, 0)) / 2
 	switch r.x.Ans().Err {
 	case api.OK:
-		want := []api.Access{stored(kept.W+1, r.node<<21+r.n), stored(kept.W, word(version&maxVersion, live))}
-		if !is || !slices.Equal(stores, want) || r.x.Ans().N != (version&maxVersion)*16+k {
+		want := []api.Access{stored(kept.W+1, r.node<<21+r.n), stored(kept.W, sample.Word(version&sample.MaxVersion, live))}
+		if !is || !slices.Equal(stores, want) || r.x.Ans().N != (version&sample.MaxVersion)*16+k {
 			t.Fatalf("%+v: %v, stored %v; want %v", r, r.x.Ans(), stores, want)
 		}
 	case api.ErrOver:
-		if want := []api.Access{stored(kept.W, word(version&maxVersion, free))}; !is || !slices.Equal(stores, want) || !slices.Equal(log[len(log)-1:], want) {
+		if want := []api.Access{stored(kept.W, sample.Word(version&sample.MaxVersion, free))}; !is || !slices.Equal(stores, want) || !slices.Equal(log[len(log)-1:], want) {
 			t.Fatalf("%+v: %v, stored %v; want %v", r, r.x.Ans(), stores, want)
 		}
 	case api.ErrFull:
@@ -622,14 +488,14 @@ func (r among) checkTicket(t *testing.T, log []api.Access) {
 
 // P12.2, alone: no word is altered otherwise; refused, all words are as they were, but for how what is left is shared, and the ticket's version.
 func TestAloneAllOrNone(t *testing.T) {
-	pick := drawer(14)
+	pick := sample.Drawer(14)
 	for range 3000 {
-		c := someSetting(pick)
+		c := pick.Setting()
 		m := plan.Fresh(c)
 		for range pick(100) {
-			m.Poke(disturb(c, pick, -1))
+			m.Poke(pick.Disturb(c, -1))
 		}
-		node, n, thread := someLeaf(c, pick), someAmount(pick), pick(1001)
+		node, n, thread := pick.Leaf(c), pick.Amount(), pick(1001)
 		before := m.Words()
 		x := New(c, node, n, thread)
 		if _, last := mem.Play(m, x, nil, 1000); !last {
@@ -638,20 +504,20 @@ func TestAloneAllOrNone(t *testing.T) {
 		after, ok := m.Words(), x.Ans().Err == api.OK
 		for other := range c.Parents {
 			d := 0
-			if ok && slices.Contains(pathOf(c, node), other) {
+			if ok && slices.Contains(tree.Path(c, node), other) {
 				d = n
 			}
-			was, is := laidOut(c, before, other), laidOut(c, after, other)
-			if is.limit != was.limit || is.left != was.left-d || is.sum != was.sum+d || is.onTheWay != was.onTheWay {
+			was, is := sample.Look(c, before, other), sample.Look(c, after, other)
+			if is.Limit != was.Limit || is.Left != was.Left-d || is.Sum != was.Sum+d || is.OnTheWay != was.OnTheWay {
 				t.Fatalf("%+v, %d for node %d by %d: %v, node %d had %+v, has %+v", c, n, node, thread, x.Ans(), other, was, is)
 			}
-			if !ok && !slices.Equal(before[globalWord(c, other):nodeWord(c, other+1)], after[globalWord(c, other):nodeWord(c, other+1)]) {
+			if !ok && !slices.Equal(before[plan.Counter(c, other):plan.Limit(c, other+1)], after[plan.Counter(c, other):plan.Limit(c, other+1)]) {
 				t.Fatalf("%+v: refused, but counted at node %d", c, other)
 			}
 		}
 		altered := 0
 		for k := range c.Tickets {
-			if w := ticketWord(c, k); before[w] != after[w] || before[w+1] != after[w+1] {
+			if w := plan.Ticket(c, k); before[w] != after[w] || before[w+1] != after[w+1] {
 				altered++
 				if !ok && (pack.Value(before[w]) != free || pack.Value(after[w]) != free || before[w+1] != after[w+1]) {
 					t.Fatalf("%+v: refused, but ticket %d is %d, %d", c, k, after[w], after[w+1])
@@ -664,22 +530,9 @@ func TestAloneAllOrNone(t *testing.T) {
 	}
 }
 
-// laid is what a node's words say.
-type laid struct{ limit, left, sum, onTheWay int }
-
-func laidOut(c api.Conf, words []int, node int) laid {
-	l := laid{limit: words[nodeWord(c, node)], left: words[availWord(c, node)], sum: words[globalWord(c, node)]}
-	for stripe := range c.Stripes {
-		l.left += words[leaseWord(c, node, stripe)]
-		l.sum += int(int32(words[stripeWord(c, node, stripe)]))
-	}
-	l.onTheWay = words[begunWord(c, node)] - words[doneWord(c, node)]
-	return l
-}
-
 // P12.3: alone, all small pools of a leaf and its parent, and all states of two tickets.
 func TestAloneRefusedWithCause(t *testing.T) {
-	c := chain(2, 2, 2)
+	c := sample.Chain(2, 2, 2)
 	for pools := range 4 * 3 * 2 * 4 * 3 * 2 {
 		var own, other, avail [2]int
 		rest := pools
@@ -691,12 +544,12 @@ func TestAloneRefusedWithCause(t *testing.T) {
 			for n := 1; n <= 3; n++ {
 				m := plan.Fresh(c)
 				for node := range 2 {
-					m.Poke(availWord(c, node), avail[node])
-					m.Poke(leaseWord(c, node, 1), own[node])
-					m.Poke(leaseWord(c, node, 0), other[node])
+					m.Poke(plan.Avail(c, node), avail[node])
+					m.Poke(plan.Lease(c, node, 1), own[node])
+					m.Poke(plan.Lease(c, node, 0), other[node])
 				}
-				m.Poke(ticketWord(c, 0), word(4, states&3))
-				m.Poke(ticketWord(c, 1), word(7, states>>2))
+				m.Poke(plan.Ticket(c, 0), sample.Word(4, states&3))
+				m.Poke(plan.Ticket(c, 1), sample.Word(7, states>>2))
 				little := func(node int) bool { return own[node] < n && avail[node] < n }
 				want := had(9*16 + 1)
 				switch {
@@ -722,20 +575,20 @@ func TestAloneRefusedWithCause(t *testing.T) {
 func TestAloneFirstOfThePath(t *testing.T) {
 	for first := range api.MaxNodes {
 		for behind := range first + 1 {
-			c := chain(api.MaxNodes, 8, 16)
+			c := sample.Chain(api.MaxNodes, 8, 16)
 			c.Lease = 40
 			m := plan.Fresh(c)
 			thread, n := 11*first+behind, 7+behind
 			for _, node := range []int{first, behind} {
-				m.Poke(availWord(c, node), n-1)
-				m.Poke(leaseWord(c, node, thread%8), n-1)
+				m.Poke(plan.Avail(c, node), n-1)
+				m.Poke(plan.Lease(c, node, thread%8), n-1)
 			}
 			x := New(c, api.MaxNodes-1, n, thread)
 			if _, last := mem.Play(m, x, nil, 999); !last || x.Ans() != over(first) {
 				t.Errorf("%d and %d have too little: %t, %v", first, behind, last, x.Ans())
 			}
-			m.Poke(availWord(c, first), n)
-			m.Poke(leaseWord(c, behind, thread%8), n)
+			m.Poke(plan.Avail(c, first), n)
+			m.Poke(plan.Lease(c, behind, thread%8), n)
 			x = New(c, api.MaxNodes-1, n, thread)
 			if _, last := mem.Play(m, x, nil, 999); !last || x.Ans() != had(4*16+thread%16) {
 				t.Errorf("%d and %d have just enough: %t, %v", first, behind, last, x.Ans())
@@ -746,7 +599,7 @@ func TestAloneFirstOfThePath(t *testing.T) {
 
 // P12.1: the greatest numbers, of which something is said.
 func TestGreatest(t *testing.T) {
-	c := chain(api.MaxNodes, api.MaxStripes, api.MaxTickets)
+	c := sample.Chain(api.MaxNodes, api.MaxStripes, api.MaxTickets)
 	c.Gate, c.Lease = api.MaxGate, api.MaxAmount
 	for node := range c.Limits {
 		c.Limits[node] = api.MaxLimit
@@ -758,8 +611,8 @@ func TestGreatest(t *testing.T) {
 			t.Fatalf("the one %d: %t, %v", times, last, x.Ans())
 		}
 		for node := range c.Parents {
-			want := laid{limit: api.MaxLimit, left: api.MaxLimit - times*api.MaxAmount, sum: times * api.MaxAmount}
-			if got := laidOut(c, m.Words(), node); got != want {
+			want := sample.Laid{Limit: api.MaxLimit, Left: api.MaxLimit - times*api.MaxAmount, Sum: times * api.MaxAmount}
+			if got := sample.Look(c, m.Words(), node); got != want {
 				t.Fatalf("the one %d, node %d: %+v; want %+v", times, node, got, want)
 			}
 		}
@@ -783,11 +636,11 @@ func TestStepsBehindTheLast(t *testing.T) {
 		{4, 3, free, 11, over(0)},
 		{1, 20, live, 3, full()},
 	} {
-		c := few()
+		c := sample.Few()
 		m, x := plan.Fresh(c), New(c, 3, f.n, 0)
-		m.Poke(availWord(c, 0), f.avail)
+		m.Poke(plan.Avail(c, 0), f.avail)
 		for k := range c.Tickets {
-			m.Poke(ticketWord(c, k), f.states)
+			m.Poke(plan.Ticket(c, k), f.states)
 		}
 		for step := 1; step <= f.steps+8; step++ {
 			if step <= f.steps && x.Ans() != (api.Ans{}) {
@@ -810,106 +663,25 @@ func TestStepsBehindTheLast(t *testing.T) {
 	}
 }
 
-// thread makes machines, one behind the other.
-type thread struct {
-	left []func() mem.Machine
-	on   mem.Machine
-	ans  []api.Ans
-}
-
-func (x *thread) ended() bool { return x.on == nil && len(x.left) == 0 }
-
-func (x *thread) step(m *mem.Mem) {
-	if x.ended() {
-		return
-	}
-	if x.on == nil {
-		x.on, x.left = x.left[0](), x.left[1:]
-	}
-	if x.on.Step(m) {
-		x.ans, x.on = append(x.ans, x.on.Ans()), nil
-	}
-}
-
-// used is how much live tickets have of each node.
-func used(c api.Conf, words []int) []int {
-	l := make([]int, len(c.Parents))
-	for k := range c.Tickets {
-		if w := ticketWord(c, k); pack.Value(words[w]) == live {
-			for _, node := range pathOf(c, words[w+1]>>21) {
-				l[node] += words[w+1] & (1<<21 - 1)
-			}
-		}
-	}
-	return l
-}
-
-// neverTooMuch checks that no node's live tickets have more than what its limit has beside what is left, and no lease holds too much.
-func neverTooMuch(t *testing.T, c api.Conf, m *mem.Mem) {
+// together has threads step by a row of turns, then one behind the other, and checks that there is never too much, that behind all nothing is lost, or made, and that the handles that were told name the tickets that are live.
+func together(t *testing.T, c api.Conf, l []*sample.Thread, turns []int) {
 	t.Helper()
-	words := m.Words()
-	for node, n := range used(c, words) {
-		if l := laidOut(c, words, node); words[availWord(c, node)] < 0 || n > l.limit-l.left {
-			t.Fatalf("%+v: %d of node %d are used, it has %+v, behind %v", c, n, node, l, m.Log())
-		}
-		for stripe := range c.Stripes {
-			if l := words[leaseWord(c, node, stripe)]; l < 0 || l > c.Lease {
-				t.Fatalf("%+v: a lease of node %d is %d, behind %v", c, node, l, m.Log())
-			}
-		}
+	m := plan.Fresh(c)
+	if wrong := sample.Together(c, m, l, turns); wrong != "" {
+		t.Fatalf("%+v: %s, behind %v", c, wrong, m.Log())
 	}
-}
-
-// atRest checks that nothing is lost, or made, and that the handles that were told name the tickets that are live.
-func atRest(t *testing.T, c api.Conf, m *mem.Mem, l []*thread) {
-	t.Helper()
-	words := m.Words()
-	for node, n := range used(c, words) {
-		if l := laidOut(c, words, node); n != l.limit-l.left || n != l.sum || l.onTheWay != 0 {
-			t.Fatalf("%+v: %d of node %d are used, it has %+v, behind %v", c, n, node, l, m.Log())
-		}
-	}
-	var told, want []int
+	var told []int
 	for _, x := range l {
-		for _, ans := range x.ans {
+		for _, ans := range x.Ans {
 			if ans.Err == api.OK && ans.N != 0 {
 				told = append(told, ans.N)
 			}
 		}
 	}
-	for k := range c.Tickets {
-		switch w := words[ticketWord(c, k)]; pack.Value(w) {
-		case live:
-			want = append(want, pack.Version(w)*16+k)
-		case busy, ending:
-			t.Fatalf("%+v: ticket %d is %d, behind %v", c, k, w, m.Log())
-		}
-	}
 	slices.Sort(told)
-	slices.Sort(want)
-	if !slices.Equal(told, want) {
+	if want := sample.Handles(c, m.Words()); !slices.Equal(told, want) {
 		t.Fatalf("%+v: handles %v were told, %v are live, behind %v", c, told, want, m.Log())
 	}
-}
-
-// together has threads step by a row of turns, then one behind the other.
-func together(t *testing.T, c api.Conf, l []*thread, turns []int) {
-	t.Helper()
-	m := plan.Fresh(c)
-	for _, i := range turns {
-		l[i].step(m)
-		neverTooMuch(t, c, m)
-	}
-	for _, x := range l {
-		for steps := 0; !x.ended(); steps++ {
-			x.step(m)
-			neverTooMuch(t, c, m)
-			if steps > 4000 {
-				t.Fatalf("%+v: no end, alone, behind %v", c, m.Log())
-			}
-		}
-	}
-	atRest(t, c, m, l)
 }
 
 func admits(c api.Conf, node, n, number int) func() mem.Machine {
@@ -921,15 +693,15 @@ func times(many, of int) []int { return slices.Repeat([]int{of}, many) }
 
 // P12.2: two threads, each stopped behind each step of its own.
 func TestStoppedWherever(t *testing.T) {
-	c := few()
+	c := sample.Few()
 	for _, f := range []struct{ first, second, n, m, other int }{
 		{2, 2, 4, 4, 1}, {2, 3, 6, 5, 1}, {3, 3, 3, 3, 2}, {2, 3, 8, 2, 0}, {3, 3, 5, 6, 3},
 	} {
 		for i := range 32 {
 			for j := range 32 {
-				l := []*thread{
-					{left: []func() mem.Machine{admits(c, f.first, f.n, 0)}},
-					{left: []func() mem.Machine{admits(c, f.second, f.m, f.other)}},
+				l := []*sample.Thread{
+					{Left: []func() mem.Machine{admits(c, f.first, f.n, 0)}},
+					{Left: []func() mem.Machine{admits(c, f.second, f.m, f.other)}},
 				}
 				together(t, c, l, slices.Concat(times(i, 0), times(j, 1), times(32, 0)))
 			}
@@ -939,18 +711,18 @@ func TestStoppedWherever(t *testing.T) {
 
 // P12.2: many threads, by drawn turns, while limits are raised and lowered.
 func TestManyTogether(t *testing.T) {
-	pick := drawer(15)
+	pick := sample.Drawer(15)
 	answers := map[api.Errno]int{}
 	for range 400 {
-		c := someSetting(pick)
+		c := pick.Setting()
 		for node := range c.Limits {
 			c.Limits[node] = 20 + pick(100)
 		}
-		var l []*thread
+		var l []*sample.Thread
 		for i := range 2 + pick(api.MaxThreads-1) {
-			x := &thread{}
+			x := &sample.Thread{}
 			for range 1 + pick(4) {
-				next := admits(c, someLeaf(c, pick), 1+pick(12), i)
+				next := admits(c, pick.Leaf(c), 1+pick(12), i)
 				node, n, raised := pick(len(c.Parents)), 1+pick(20), pick(2) == 0
 				if pick(5) == 0 {
 					next = func() mem.Machine {
@@ -960,7 +732,7 @@ func TestManyTogether(t *testing.T) {
 						return shift.Lower(c, node, n)
 					}
 				}
-				x.left = append(x.left, next)
+				x.Left = append(x.Left, next)
 			}
 			l = append(l, x)
 		}
@@ -970,7 +742,7 @@ func TestManyTogether(t *testing.T) {
 		}
 		together(t, c, l, turns)
 		for _, x := range l {
-			for _, ans := range x.ans {
+			for _, ans := range x.Ans {
 				answers[ans.Err]++
 			}
 		}
@@ -982,7 +754,7 @@ func TestManyTogether(t *testing.T) {
 
 // P3: machines stand apart, and what one does hangs on what it was given alone.
 func TestMachinesStandApart(t *testing.T) {
-	c := few()
+	c := sample.Few()
 	first, second := plan.Fresh(c), plan.Fresh(c)
 	a, b, other := New(c, 3, 1, 0), New(c, 3, 1, 0), New(c, 2, 4, 1)
 	for range 20 {
@@ -1004,7 +776,7 @@ func TestMachinesStandApart(t *testing.T) {
 
 // P3: what is handed in stays as it is, its spare room too.
 func TestSettingStays(t *testing.T) {
-	c := few()
+	c := sample.Few()
 	parents, limits := append(make([]int, 0, 9), c.Parents...), append(make([]int, 0, 9), c.Limits...)
 	c.Parents, c.Limits = parents, limits
 	m := plan.Fresh(c)
@@ -1017,16 +789,11 @@ func TestSettingStays(t *testing.T) {
 	}
 }
 
-// Numbers of which nothing is said, and ordinary ones.
-func anyNumbers() []int {
-	return []int{math.MinInt, -1 << 40, -1000, -5, -1, 0, 1, 3, 9, 17, 1000, 1001, 1 << 20, 1 << 40, 1 << 62, math.MaxInt}
-}
-
 // P1: nothing is said of other settings, nodes, amounts, threads and words, but all calls end, and none panics.
 func TestWrongInputsEnd(t *testing.T) {
-	right := few()
-	for _, a := range anyNumbers() {
-		for _, b := range anyNumbers() {
+	right := sample.Few()
+	for _, a := range sample.Numbers() {
+		for _, b := range sample.Numbers() {
 			for _, m := range []*mem.Mem{nil, mem.New(0), mem.New(1), mem.New(41), plan.Fresh(right)} {
 				for _, x := range []*Machine{
 					New(right, a, b, 0), New(right, a, 1, b), New(right, 3, a, b), New(api.Conf{}, a, b, 0),
@@ -1052,7 +819,7 @@ func TestWrongInputsEnd(t *testing.T) {
 
 // P1, and wrong inputs: for a thread that may not be, a lease, the counters and the tickets are reached as for one that may be.
 func TestWrongThreads(t *testing.T) {
-	c := few()
+	c := sample.Few()
 	logOf := func(number int) []api.Access {
 		m, x := plan.Fresh(c), New(c, 3, 2, number)
 		if _, last := mem.Play(m, x, nil, 99); !last || x.Ans().Err != api.OK {
@@ -1060,9 +827,9 @@ func TestWrongThreads(t *testing.T) {
 		}
 		return m.Log()
 	}
-	for _, number := range anyNumbers() {
+	for _, number := range sample.Numbers() {
 		log := logOf(number)
-		if left, counted := moved(c, log, 3); left != -2 || counted != 2 {
+		if left, counted := sample.Moved(c, log, 3); left != -2 || counted != 2 {
 			t.Errorf("thread %d: %d are left, %d are counted, by %v", number, left, counted, log)
 		}
 		if number < 0 && !slices.Equal(log, logOf(0)) {
