@@ -736,16 +736,8 @@ func TestManyTogether(t *testing.T) {
 			}
 			l = append(l, x)
 		}
-		var turns []int
-		for range 300 {
-			turns = append(turns, slices.Repeat([]int{pick(len(l))}, 1+pick(3))...)
-		}
-		together(t, c, l, turns)
-		for _, x := range l {
-			for _, ans := range x.Ans {
-				answers[ans.Err]++
-			}
-		}
+		together(t, c, l, pick.Turns(len(l)))
+		sample.Tally(answers, l)
 	}
 	if len(answers) != 3 || answers[api.OK] < 800 || answers[api.ErrOver] < 200 || answers[api.ErrFull] < 100 {
 		t.Errorf("answers: %v", answers)

@@ -284,22 +284,13 @@ func ask(pick sample.Pick) asked {
 	return a
 }
 
-// copied is a Mem of the same words.
-func copied(m *mem.Mem) *mem.Mem {
-	other := mem.New(m.Len())
-	for i, x := range m.Words() {
-		other.Poke(i, x)
-	}
-	return other
-}
-
 // P13.1: whatever others do, all accesses, and the answer, are those of the chapter's words.
 func TestAsTheChapterSays(t *testing.T) {
 	pick := sample.Drawer(21)
 	times := map[api.Errno]int{}
 	for range 6000 {
 		a := ask(pick)
-		b := byHand{m: copied(a.m), pokes: a.pokes}
+		b := byHand{m: sample.LaidOut(a.m.Words()), pokes: a.pokes}
 		want := b.release(a.c, a.handle, a.thread)
 		x := New(a.c, a.handle, a.thread)
 		steps, last := mem.Play(a.m, x, a.pokes, 4000)
@@ -664,12 +655,8 @@ func TestManyTogether(t *testing.T) {
 		for _, x := range all {
 			l = append(l, &x.Thread)
 		}
-		var turns []int
-		for range 300 {
-			turns = append(turns, slices.Repeat([]int{pick(len(l))}, 1+pick(3))...)
-		}
 		m := plan.Fresh(c)
-		together(t, c, m, l, turns)
+		together(t, c, m, l, pick.Turns(len(l)))
 		times := map[int]int{}
 		for _, x := range all {
 			for at, handle := range x.handles {

@@ -1,4 +1,4 @@
-// Package sample has what tests of the upper layers are made of: settings, rows of draws, what others may do meanwhile, and what words and accesses say of a node. No layer calls it.
+// Package sample has what tests of the upper layers are made of: settings, rows of draws, calls, what others may do meanwhile, and what words and accesses say of a node. No layer calls it.
 package sample
 
 import (
@@ -139,10 +139,46 @@ func (pick Pick) powerOfTwo(most int) int {
 	return pick.OneOf(l...)
 }
 
+// Call is one of any kind, mostly such as may be; what it releases is one of those handles, if there are any.
+func (pick Pick) Call(c api.Conf, handles ...int) api.Call {
+	if pick(20) == 0 {
+		return api.Call{Kind: pick(9) - 1, Node: pick.OneOf(Numbers()...), N: pick.OneOf(Numbers()...)}
+	}
+	x := api.Call{Kind: pick.OneOf(api.Admit, api.Admit, api.Release, api.Raise, api.Lower, api.Usage, api.Peek), Node: pick(len(c.Parents)), N: pick.Amount()}
+	switch {
+	case x.Kind == api.Admit && pick(9) > 0:
+		x.Node = pick.Leaf(c)
+	case x.Kind == api.Release && len(handles) > 0:
+		x.N = pick.OneOf(handles...)
+	}
+	return x
+}
+
+// Turns are those of so many threads, each of which has some one behind the other.
+func (pick Pick) Turns(threads int) []int {
+	var turns []int
+	for range 300 {
+		turns = append(turns, slices.Repeat([]int{pick(threads)}, 1+pick(3))...)
+	}
+	return turns
+}
+
 // Numbers are some of which often nothing is said, and ordinary ones.
 func Numbers() []int {
 	return []int{-1 << 63, -1 << 40, -1000, -5, -1, 0, 1, 3, 9, 17, 1000, 1001, 1 << 20, 1 << 40, 1 << 62, 1<<63 - 1}
 }
+
+// LaidOut is a Mem of those words, without an access.
+func LaidOut(words []int) *mem.Mem {
+	m := mem.New(len(words))
+	for i, x := range words {
+		m.Poke(i, x)
+	}
+	return m
+}
+
+// Spacious is the same list, with spare room, in which something stands.
+func Spacious(l []int) []int { return append(slices.Clone(l), 7, 7, 7)[:len(l)] }
 
 // Moved is how much a row of accesses added to what is left of a node, and to its counter.
 func Moved(c api.Conf, log []api.Access, node int) (int, int) {
@@ -260,6 +296,15 @@ func (x *Thread) Step(m *mem.Mem) {
 	}
 	if x.on.Step(m) {
 		x.Ans, x.on = append(x.Ans, x.on.Ans()), nil
+	}
+}
+
+// Tally adds how often threads' answers had each error.
+func Tally(times map[api.Errno]int, l []*Thread) {
+	for _, x := range l {
+		for _, ans := range x.Ans {
+			times[ans.Err]++
+		}
 	}
 }
 

@@ -33,6 +33,62 @@ func TestDrawn(t *testing.T) {
 	}
 }
 
+// Calls that are drawn are of all kinds, and some of none.
+func TestCalls(t *testing.T) {
+	pick := Drawer(8)
+	times, released := map[int]int{}, map[int]int{}
+	for range 3000 {
+		c := pick.Setting()
+		x := pick.Call(c, 32, 65)
+		times[x.Kind]++
+		if x.Kind == api.Release {
+			released[x.N]++
+		}
+		if y := pick.Call(c); y.Kind == api.Admit && y.N > 0 && tree.Leaf(c, y.Node) {
+			times[-9]++
+		}
+	}
+	for kind, few := range map[int]int{api.Admit: 600, api.Release: 300, api.Raise: 300, api.Lower: 300, api.Usage: 300, api.Peek: 300, -1: 5, 0: 5, 7: 5, -9: 600} {
+		if times[kind] < few {
+			t.Errorf("of 3000 there were %v", times)
+		}
+	}
+	if released[32] < 100 || released[65] < 100 {
+		t.Errorf("what was to be released was %v", released)
+	}
+}
+
+// What is laid out is as it was handed in, and stands apart from it, as a list with spare room does.
+func TestLaidOut(t *testing.T) {
+	l := []int{3, 1, 2}
+	m, more := LaidOut(l), Spacious(l)
+	if !slices.Equal(m.Words(), l) || len(m.Log()) != 0 || !slices.Equal(more, l) || cap(more) < 6 || !slices.Equal(more[:6], []int{3, 1, 2, 7, 7, 7}) {
+		t.Errorf("%v, %v, %v", m.Words(), m.Log(), more)
+	}
+	m.Poke(0, 9)
+	more[1] = 9
+	if !slices.Equal(l, []int{3, 1, 2}) {
+		t.Errorf("%v", l)
+	}
+}
+
+// Turns are those of all threads; answers are told by their errors.
+func TestTurns(t *testing.T) {
+	turns := Drawer(9).Turns(3)
+	times := [3]int{}
+	for _, i := range turns {
+		times[i]++
+	}
+	if len(turns) < 300 || len(turns) > 900 || min(times[0], times[1], times[2]) < 100 {
+		t.Errorf("%v, in %v", times, turns)
+	}
+	told := map[api.Errno]int{api.ErrOver: 1}
+	Tally(told, []*Thread{{Ans: []api.Ans{{Err: api.ErrOver}, {N: 3}}}, {}, {Ans: []api.Ans{{Err: api.ErrOver}}}})
+	if told[api.ErrOver] != 3 || told[api.OK] != 1 || len(told) != 2 {
+		t.Errorf("%v", told)
+	}
+}
+
 // What others do leaves words as pools, counters and tickets may be, and a ticket that is kept as it is.
 func TestDisturbed(t *testing.T) {
 	pick := Drawer(6)

@@ -369,7 +369,7 @@ func TestCounted(t *testing.T) {
 		{"what live tickets have is nothing to it", 2, []int{28, v + 3, 40, live, 41, body(2, 5)}, []int{25, 26, 24, 28, 29, 25, 28, 29}, api.Ans{N: 3, Exact: true}},
 	} {
 		c, w := fewWith(f.pairs...)
-		m := laidOut(w)
+		m := sample.LaidOut(w)
 		x := Count(c, f.node)
 		if steps, last := mem.Play(m, x, nil, 99); steps != len(f.words) || !last || x.Ans() != f.want {
 			t.Errorf("%s: %d steps, %t, %+v; want %d, %+v", f.name, steps, last, x.Ans(), len(f.words), f.want)
@@ -384,19 +384,11 @@ func TestCounted(t *testing.T) {
 func TestPeeked(t *testing.T) {
 	c, w := fewWith(4, 11, 14, -12, 24, math.MinInt, 34, 14, 9, v+3)
 	for node, want := range []struct{ word, n int }{{4, 11}, {14, -12}, {24, math.MinInt}, {34, 14}} {
-		m, x := laidOut(w), Peek(c, node)
+		m, x := sample.LaidOut(w), Peek(c, node)
 		if steps, last := mem.Play(m, x, nil, 99); steps != 1 || !last || x.Ans() != (api.Ans{N: want.n}) || !slices.Equal(m.Log(), loads(w, want.word)) {
 			t.Errorf("node %d: %d steps, %t, %+v, by %v", node, steps, last, x.Ans(), m.Log())
 		}
 	}
-}
-
-func laidOut(w []int) *mem.Mem {
-	m := mem.New(len(w))
-	for i, x := range w {
-		m.Poke(i, x)
-	}
-	return m
 }
 
 // P14.1, of N3: among others, in settings of any form, counts and peeks are those of layer 7, of the words that layer 5 counts out.
@@ -417,7 +409,7 @@ func TestAsLayer7(t *testing.T) {
 		for range pick(12) {
 			pokes = append(pokes, sample.Poke(pick(50), base+1+pick(2), pick(2)), sample.Poke(pick(50), base+4+pick(c.Stripes), pick(c.Gate)))
 		}
-		second, third := laidOut(first.Words()), laidOut(first.Words())
+		second, third := sample.LaidOut(first.Words()), sample.LaidOut(first.Words())
 		x, y := Count(c, node), snap.Count(base, c.Stripes, c.Retry)
 		steps, last := mem.Play(first, x, pokes, 999)
 		mem.Play(second, y, pokes, 999)
@@ -510,18 +502,10 @@ func TestQuietBehindMany(t *testing.T) {
 			}
 			l = append(l, x)
 		}
-		var turns []int
-		for range 300 {
-			turns = append(turns, slices.Repeat([]int{pick(len(l))}, 1+pick(3))...)
-		}
-		if wrong := sample.Together(c, m, l, turns); wrong != "" {
+		if wrong := sample.Together(c, m, l, pick.Turns(len(l))); wrong != "" {
 			t.Fatalf("%+v: %s, behind %v", c, wrong, m.Log())
 		}
-		for _, x := range l {
-			for _, ans := range x.Ans {
-				times[ans.Err]++
-			}
-		}
+		sample.Tally(times, l)
 		if Used(c, m.Words(), 0) != m.Words()[plan.Counter(c, 0)] {
 			global++
 		}
@@ -553,15 +537,15 @@ func TestHandedInStays(t *testing.T) {
 	pick := sample.Drawer(37)
 	for range 300 {
 		c := pick.Setting()
-		parents, limits, w := spacious(c.Parents), spacious(c.Limits), spacious(anyWords(pick, c))
+		parents, limits, w := sample.Spacious(c.Parents), sample.Spacious(c.Limits), sample.Spacious(anyWords(pick, c))
 		wasParents, wasLimits, was := slices.Clone(parents[:cap(parents)]), slices.Clone(limits[:cap(limits)]), slices.Clone(w[:cap(w)])
 		c.Parents, c.Limits = parents, limits
 		told := func() []int {
 			var l []int
 			for node := range c.Parents {
 				l = append(l, Used(c, w, node), Held(c, w, node))
-				mem.Play(laidOut(w), Count(c, node), nil, 99)
-				mem.Play(laidOut(w), Peek(c, node), nil, 99)
+				mem.Play(sample.LaidOut(w), Count(c, node), nil, 99)
+				mem.Play(sample.LaidOut(w), Peek(c, node), nil, 99)
 			}
 			for k := range c.Tickets {
 				node, n, _ := Live(c, w, k)
@@ -578,13 +562,10 @@ func TestHandedInStays(t *testing.T) {
 	}
 }
 
-// spacious is the same list, with spare room, in which something stands.
-func spacious(l []int) []int { return append(slices.Clone(l), 7, 7, 7)[:len(l)] }
-
 // P3: machines stand apart.
 func TestMachinesStandApart(t *testing.T) {
 	c, w := fewWith(4, 10, 8, v+3)
-	m := laidOut(w)
+	m := sample.LaidOut(w)
 	x, y, z, p := Count(c, 0), Count(c, 0), Count(c, 1), Peek(c, 0)
 	for range 8 {
 		x.Step(m)
