@@ -154,6 +154,30 @@ func (pick Pick) Call(c api.Conf, handles ...int) api.Call {
 	return x
 }
 
+// Likely are handles that a ticket's first admissions may tell: the first one's is of version 2, and a refusal, or a release, goes on by two.
+func Likely(c api.Conf) []int {
+	var l []int
+	for _, version := range []int{2, 4, 6} {
+		for k := range c.Tickets {
+			l = append(l, version*api.MaxTickets+k)
+		}
+	}
+	return l
+}
+
+// Script has rows of calls, for some or all threads, each of at most so many; what they release is mostly what was likely admitted.
+func (pick Pick) Script(c api.Conf, most int) [][]api.Call {
+	var rows [][]api.Call
+	for range pick.OneOf(pick(c.Threads+1), c.Threads, c.Threads) {
+		var row []api.Call
+		for range pick(most + 1) {
+			row = append(row, pick.Call(c, Likely(c)...))
+		}
+		rows = append(rows, row)
+	}
+	return rows
+}
+
 // Turns are those of so many threads, each of which has some one behind the other.
 func (pick Pick) Turns(threads int) []int {
 	var turns []int

@@ -58,6 +58,30 @@ func TestCalls(t *testing.T) {
 	}
 }
 
+// Scripts are such as may be: rows and calls of all numbers up to the most; what is likely is told by admissions.
+func TestScripts(t *testing.T) {
+	if l := Likely(Few()); !slices.Equal(l, []int{32, 33, 34, 64, 65, 66, 96, 97, 98}) {
+		t.Errorf("%v", l)
+	}
+	pick := Drawer(7)
+	rows, calls := map[int]int{}, map[int]int{}
+	for range 2000 {
+		l := pick.Script(Few(), 3)
+		rows[len(l)]++
+		for _, row := range l {
+			calls[len(row)]++
+		}
+	}
+	for _, n := range []int{0, 1, 2} {
+		if rows[n] < 100 || calls[n] < 500 {
+			t.Errorf("there were %v, of %v", rows, calls)
+		}
+	}
+	if len(rows) != 3 || calls[3] < 500 || len(calls) != 4 {
+		t.Errorf("there were %v, of %v", rows, calls)
+	}
+}
+
 // What is laid out is as it was handed in, and stands apart from it, as a list with spare room does.
 func TestLaidOut(t *testing.T) {
 	l := []int{3, 1, 2}
